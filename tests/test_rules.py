@@ -1,0 +1,59 @@
+"""The rules of the language that can be measured: files, sizes, signs and what is imported."""
+
+import ast
+import pathlib
+import re
+import unittest
+
+PACKAGE = pathlib.Path(__file__).resolve().parent.parent / "dialweir"
+FILES = sorted(path for path in PACKAGE.rglob("*.py"))
+LIBRARY = {
+    "__future__": {"annotations"},
+    "heapq": {"heappush", "heappop", "heapify", "heapreplace", "heappushpop"},
+    "math": {"gcd", "lcm", "isqrt", "comb", "perm", "factorial"},
+    "itertools": {
+        "product", "combinations", "permutations", "chain", "accumulate", "pairwise", "islice", "zip_longest",
+    },
+    "collections": {"defaultdict"},
+}
+
+
+def trees():
+    return [(path, ast.parse(path.read_text(encoding="ascii"))) for path in FILES]
+
+
+class RulesTest(unittest.TestCase):
+    def test_the_folder_holds_plain_files_alone(self):
+        there = [path for path in PACKAGE.rglob("*") if path.is_file() and path.parent.name != "__pycache__"]
+        self.assertEqual(sorted(there), FILES)
+        for path in FILES:
+            self.assertRegex(path.name, r"\A[a-z0-9_]+\.py\Z")
+
+    def test_signs_and_sizes(self):
+        for path in FILES:
+            text = path.read_bytes().decode("ascii")
+            with self.subTest(path.name):
+                self.assertIsNone(re.search(r"[^\n -~]", text))
+                lines = text.splitlines()
+                self.assertLessEqual(len(lines), 399)
+                self.assertLessEqual(max(map(len, lines), default=0), 120)
+
+    def test_functions_are_small(self):
+        for path, tree in trees():
+            for node in ast.walk(tree):
+                if isinstance(node, ast.FunctionDef):
+                    with self.subTest(f"{path.name} {node.name}"):
+                        self.assertLessEqual(node.end_lineno - node.lineno + 1, 40)
+
+    def test_imports(self):
+        for path, tree in trees():
+            with self.subTest(path.name):
+                whole = [name.name for node in ast.walk(tree) if isinstance(node, ast.Import) for name in node.names]
+                self.assertLessEqual(set(whole), {"sys"} if path.name == "__main__.py" else set())
+                for node in ast.walk(tree):
+                    if isinstance(node, ast.ImportFrom) and not node.module.startswith("dialweir."):
+                        self.assertLessEqual({name.name for name in node.names}, LIBRARY.get(node.module, set()))
+
+
+if __name__ == "__main__":
+    unittest.main()
