@@ -22,6 +22,10 @@ def trees():
     return [(path, ast.parse(path.read_text(encoding="ascii"))) for path in FILES]
 
 
+def imported(tree):
+    return {node.module for node in ast.walk(tree) if isinstance(node, ast.ImportFrom)}
+
+
 class RulesTest(unittest.TestCase):
     def test_the_folder_holds_plain_files_alone(self):
         there = [path for path in PACKAGE.rglob("*") if path.is_file() and path.parent.name != "__pycache__"]
@@ -53,6 +57,14 @@ class RulesTest(unittest.TestCase):
                 for node in ast.walk(tree):
                     if isinstance(node, ast.ImportFrom) and not node.module.startswith("dialweir."):
                         self.assertLessEqual({name.name for name in node.names}, LIBRARY.get(node.module, set()))
+
+    def test_no_two_files_import_from_each_other(self):
+        needed = {f"dialweir.{path.stem}": imported(tree) for path, tree in trees()}
+        while needed:
+            free = [name for name in needed if not needed[name] & set(needed)]
+            self.assertTrue(free, f"a ring of imports among {sorted(needed)}")
+            for name in free:
+                del needed[name]
 
 
 if __name__ == "__main__":
