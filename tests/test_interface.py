@@ -3,12 +3,25 @@
 import inspect
 import unittest
 
-from dialweir import net, rowing, tongue
+from dialweir import looker, lower, net, rowing, solve, tongue
 
 FUNCTIONS = (
     (rowing, "do_row", "(net, line, *, plain=False)"),
     (rowing, "text_of", "(net)"),
     (tongue, "read_net", "(text)"),
+    (lower, "unrolled", "(net)"),
+    (lower, "doored", "(spots, wants, rooms, arcs)"),
+    (lower, "laid", "(arcs)"),
+    (lower, "sunk", "(wants, rows)"),
+    (solve, "bar", "(needs, arcs, s)"),
+    (solve, "ring_at", "(count, arcs, t)"),
+    (solve, "best", "(needs, arcs, s, t, *, s_ahead=False, t_ahead=False)"),
+    (looker, "plan_fault", "(net, loads, s)"),
+    (looker, "cost", "(net, loads, s, t)"),
+    (looker, "prices_fault", "(net, loads, prices, s, t)"),
+    (looker, "oblong_fault", "(net, oblong)"),
+    (looker, "set_lack", "(net, paper)"),
+    (looker, "ring_price", "(net, ring)"),
 )
 NET = {
     "__init__": "(self, *, hours=1, s_box=(0, 0), t_box=(0, 0))",
@@ -33,6 +46,14 @@ NET = {
     "__repr__": "(self)",
     "__eq__": "(self, other)",
 }
+LOWERED = {
+    "__init__": "(self, net)",
+    "up_plan": "(self, loads)",
+    "up_prices": "(self, heights)",
+    "up_set": "(self, side, numbers)",
+    "up_ring": "(self, numbers)",
+}
+CLASSES = ((net, "Net", NET), (lower, "Lowered", LOWERED))
 
 
 class InterfaceTest(unittest.TestCase):
@@ -43,11 +64,13 @@ class InterfaceTest(unittest.TestCase):
                 self.assertEqual(str(inspect.signature(function)), told)
                 self.assertEqual(function.__module__, module.__name__)
 
-    def test_net(self):
-        self.assertEqual(net.Net.__module__, "dialweir.net")
-        for name, told in NET.items():
-            with self.subTest(name):
-                self.assertEqual(str(inspect.signature(vars(net.Net)[name])), told)
+    def test_classes(self):
+        for module, class_name, methods in CLASSES:
+            told_class = getattr(module, class_name)
+            self.assertEqual(told_class.__module__, module.__name__)
+            for name, told in methods.items():
+                with self.subTest(f"{class_name}.{name}"):
+                    self.assertEqual(str(inspect.signature(vars(told_class)[name])), told)
 
 
 if __name__ == "__main__":
