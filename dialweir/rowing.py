@@ -44,19 +44,19 @@ def row_number(word):
     return number
 
 
+def exactly(count, words):
+    """The words, where they are as many as that."""
+    if len(words) != count:
+        raise BadWord(" ".join(words))
+    return words
+
+
 def text_of(net):
     """The net's text."""
     return "\n".join(_net_rows(net))
 
 
 # Each of the readers below reads all of its words ahead of the deed: a row's form is looked at whole first.
-
-
-def _exactly(count, words):
-    """The words, where they are as many as that."""
-    if len(words) != count:
-        raise BadWord(" ".join(words))
-    return words
 
 
 def _read_room(word):
@@ -71,26 +71,26 @@ def _read_rung(word):
 
 
 def _do_place(net, words):
-    net.place(_exactly(1, words)[0])
+    net.place(exactly(1, words)[0])
 
 
 def _do_through(net, words):
-    name, room = _exactly(2, words)
+    name, room = exactly(2, words)
     net.through(name, _read_room(room))
 
 
 def _do_store(net, words):
-    name, room, price = _exactly(3, words)
+    name, room, price = exactly(3, words)
     net.store(name, _read_room(room), read_move(price, "t"))
 
 
 def _do_want(net, words):
-    name, hour, move = _exactly(3, words)
+    name, hour, move = exactly(3, words)
     net.want(name, row_number(hour), read_move(move, "s"))
 
 
 def _do_road(net, words):
-    name, start, end, takes, floor = _exactly(5, words[:5])
+    name, start, end, takes, floor = exactly(5, words[:5])
     rungs = tuple([_read_rung(word) for word in words[5:]])
     # The text writes no road without rungs, so that this is a fault of form and not one of the deed.
     if len(rungs) == 0:
@@ -99,11 +99,11 @@ def _do_road(net, words):
 
 
 def _do_strike(net, words):
-    net.strike(_exactly(1, words)[0])
+    net.strike(exactly(1, words)[0])
 
 
 def _do_box(net, words):
-    dial, low, high = _exactly(3, words)
+    dial, low, high = exactly(3, words)
     box = (row_number(low), row_number(high))
     if dial == "s":
         net.box(s=box)

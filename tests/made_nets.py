@@ -19,10 +19,7 @@ def move_above(chance, box, top):
     low, high = box
     first, last = chance.randint(0, top), chance.randint(0, top)
     step = 0 if low == high else (last - first) // (high - low)
-    base = first - step * low
-    while base + step * low < 0 or base + step * high < 0:
-        base += 1
-    return (base, step)
+    return (max(first - step * low, -step * low, -step * high), step)
 
 
 def move_near(chance, box, top):

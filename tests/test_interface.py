@@ -3,7 +3,7 @@
 import inspect
 import unittest
 
-from dialweir import looker, lower, net, rowing, solve, tongue
+from dialweir import atlas, desk, house, looker, lower, net, rowing, solve, tongue, ways
 
 FUNCTIONS = (
     (rowing, "do_row", "(net, line, *, plain=False)"),
@@ -22,6 +22,11 @@ FUNCTIONS = (
     (looker, "oblong_fault", "(net, oblong)"),
     (looker, "set_lack", "(net, paper)"),
     (looker, "ring_price", "(net, ring)"),
+    (atlas, "reach", "(net)"),
+    (atlas, "bottom", "(net)"),
+    (ways, "parted", "(net, loads, s)"),
+    (ways, "joined", "(net, rows)"),
+    (house, "read_page", "(text)"),
 )
 NET = {
     "__init__": "(self, *, hours=1, s_box=(0, 0), t_box=(0, 0))",
@@ -53,7 +58,50 @@ LOWERED = {
     "up_set": "(self, side, numbers)",
     "up_ring": "(self, numbers)",
 }
-CLASSES = ((net, "Net", NET), (lower, "Lowered", LOWERED))
+OBLONG = {
+    "__init__": "(self, s_span, t_span, loads, prices, four)",
+    "holds": "(self, s, t)",
+    "worth_at": "(self, s, t)",
+    "__eq__": "(self, other)",
+    "__repr__": "(self)",
+}
+ATLAS = {
+    "__init__": "(self, net)",
+    "told": "(self)",
+    "__len__": "(self)",
+    "reach": "(self)",
+    "bottom": "(self)",
+    "worth": "(self, s, t)",
+    "plan": "(self, s, t)",
+    "along_s": "(self, t)",
+    "along_t": "(self, s)",
+    "slopes": "(self, s, t)",
+}
+HOUSE = {
+    "__init__": "(self, *, limit=8)",
+    "begin": "(self, name, text)",
+    "twin": "(self, name, other)",
+    "drop": "(self, name)",
+    "edit": "(self, name, lines)",
+    "back": "(self, word)",
+    "mark": "(self, word)",
+    "undo": "(self)",
+    "redo": "(self)",
+    "names": "(self)",
+    "text": "(self, name)",
+    "net": "(self, name)",
+    "worth": "(self, name, s, t)",
+    "span_of": "(self, name)",
+    "bottom_of": "(self, name)",
+    "page": "(self)",
+    "__len__": "(self)",
+    "__eq__": "(self, other)",
+}
+DESK = {"__init__": "(self)", "say": "(self, line)", "log": "(self)"}
+CLASSES = (
+    (net, "Net", NET), (lower, "Lowered", LOWERED), (atlas, "Oblong", OBLONG), (atlas, "Atlas", ATLAS),
+    (house, "House", HOUSE), (desk, "Desk", DESK),
+)
 
 
 class InterfaceTest(unittest.TestCase):

@@ -88,6 +88,17 @@ class PricesTest(unittest.TestCase):
         self.assert_fault(raised(PRICES, {("spring", 1, "door"): (9, 0), ("spring", 2, "door"): (9, 9)}), (0, 1), (1, 1),
                           None)
 
+    def test_where_just_one_comes_or_less(self):
+        net = Net(s_box=(0, 9))
+        net.place("a")
+        net.place("b")
+        net.want("a", 1, (0, -1))
+        net.want("b", 1, (0, 1))
+        net.road("r", "a", "b")
+        prices = [("a", 1, "door", 0, 0), ("a", 1, "hall", 0, 0), ("b", 1, "door", 0, 0), ("b", 1, "hall", -1, 0)]
+        for s, fault in (((0, 1), None), ((1, 9), ("door", "b", 1)), ((1, 1), ("door", "b", 1))):
+            self.assert_fault(prices, s, (0, 1), fault, net=net, loads=[("r", 1, 0, 1)])
+
     def test_halls(self):
         self.assert_fault(raised(PRICES, {("sea", 2, "hall"): (0, 1)}), (0, 1), (0, 1), None)
         self.assert_fault(raised(PRICES, {("sea", 2, "hall"): (0, 1)}), (0, 1), (1, 7), ("hall", "sea", 2))

@@ -1,6 +1,7 @@
 """The rules of the language that can be measured: files, sizes, signs and what is imported."""
 
 import ast
+import builtins
 import pathlib
 import re
 import unittest
@@ -15,6 +16,11 @@ LIBRARY = {
         "product", "combinations", "permutations", "chain", "accumulate", "pairwise", "islice", "zip_longest",
     },
     "collections": {"defaultdict"},
+}
+# The builtins that the package uses, all of them granted.
+BUILTINS = {
+    "len", "range", "enumerate", "zip", "min", "max", "sum", "abs", "sorted", "reversed", "int", "str", "bool", "list",
+    "tuple", "dict", "set", "isinstance", "any", "all", "ValueError",
 }
 
 
@@ -48,6 +54,41 @@ class RulesTest(unittest.TestCase):
                 if isinstance(node, ast.FunctionDef):
                     with self.subTest(f"{path.name} {node.name}"):
                         self.assertLessEqual(node.end_lineno - node.lineno + 1, 40)
+
+    def test_words_and_signs(self):
+        for path, tree in trees():
+            for node in ast.walk(tree):
+                with self.subTest(f"{path.name} {getattr(node, 'lineno', 0)}"):
+                    self.assertNotIsInstance(node, (ast.Global, ast.AsyncFunctionDef, ast.NamedExpr, ast.GeneratorExp))
+                    self.assertNotIsInstance(getattr(node, "op", None), ast.Div)
+                    if isinstance(node, ast.Constant):
+                        self.assertNotIsInstance(node.value, (float, complex))
+                    if isinstance(node, ast.Compare) and isinstance(node.ops[0], (ast.Is, ast.IsNot)):
+                        self.assertIsInstance(node.comparators[0], ast.Constant)
+                    if isinstance(node, ast.Name) and hasattr(builtins, node.id):
+                        self.assertIn(node.id, BUILTINS)
+                        self.assertIsInstance(node.ctx, ast.Load)
+
+    def test_names_of_imports_mean_nothing_else(self):
+        for path, tree in trees():
+            nodes = list(ast.walk(tree))
+            brought = {name.name for node in nodes if isinstance(node, ast.ImportFrom) for name in node.names}
+            used = {node.id for node in nodes if isinstance(node, ast.Name)}
+            self.assertLessEqual(brought, used, path.name)
+            bound = {node.id for node in nodes if isinstance(node, ast.Name) and isinstance(node.ctx, ast.Store)}
+            bound |= {node.arg for node in nodes if isinstance(node, ast.arg)}
+            classes = {node.name for node in nodes if isinstance(node, ast.ClassDef)}
+            self.assertFalse(bound & (brought | classes | set(dir(builtins))), path.name)
+
+    def test_no_name_is_a_method_and_an_attribute(self):
+        methods, attributes = set(), set()
+        for _, tree in trees():
+            for node in ast.walk(tree):
+                if isinstance(node, ast.ClassDef):
+                    methods |= {part.name for part in node.body if isinstance(part, ast.FunctionDef)}
+                if isinstance(node, ast.Attribute) and isinstance(node.ctx, ast.Store):
+                    attributes.add(node.attr)
+        self.assertFalse(methods & attributes)
 
     def test_imports(self):
         for path, tree in trees():
